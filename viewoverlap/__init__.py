@@ -1,0 +1,1 @@
+"""Overlap analysis for strided views; the entry is viewoverlap.overlaps.answers."""

@@ -3,6 +3,7 @@
 from viewoverlap.overlaps import answers
 
 GREATEST = 10 ** 18
+NO_REGISTER = (-GREATEST, -1, 6, GREATEST)
 
 
 def row(numbers):
@@ -39,6 +40,38 @@ def find_shared(p, q):
 
 def prove_disjoint(p, q, certificate):
     return [7, p, q] + row(certificate)
+
+
+def find_repetition(p):
+    return [8, p]
+
+
+def prove_distinct(p, certificates):
+    return [9, p] + row(certificates)
+
+
+def elements_with_cell(p, x):
+    return [10, p, x]
+
+
+def cell_statistics(p):
+    return [11, p]
+
+
+def shared_statistics(p, q):
+    return [12, p, q]
+
+
+def first_shared_pair(p, q):
+    return [13, p, q]
+
+
+def first_repeated(p):
+    return [14, p]
+
+
+def is_covered(p, q):
+    return [15, p, q]
 
 
 def split(numbers):

@@ -3,6 +3,8 @@
 import unittest
 
 from tests import reference
+from tests.samples import balanced
+from tests.samples import trees
 from tests.support import GREATEST
 from tests.support import ask
 from tests.support import assert_checked
@@ -12,25 +14,6 @@ from tests.support import solve_all
 
 # Every box of this equation is infeasible by divisibility, down to single values.
 EVEN = [2, GREATEST] * 8
-
-
-def trees(splits):
-    """Return all certificates with so many claims 0 and any claims else."""
-    if splits == 0:
-        return [[1], [2], [3]]
-    found = []
-    for left in range(splits):
-        for first in trees(left):
-            found += [[0] + first + second for second in trees(splits - 1 - left)]
-    return found
-
-
-def balanced(splits, leaf):
-    """Return a certificate of low depth with so many claims 0."""
-    if splits == 0:
-        return [leaf]
-    left = (splits - 1) // 2
-    return [0] + balanced(left, leaf) + balanced(splits - 1 - left, leaf)
 
 
 def checked(target, variables, certificate):

@@ -1,10 +1,16 @@
 """find_shared and prove_disjoint, against the terms and against enumeration."""
 
-import random
 import unittest
 
 from tests import reference
+from tests.reference import shared_answer
+from tests.reference import shared_variables
+from tests.samples import ARRAY
+from tests.samples import balanced
+from tests.samples import small_views
+from tests.samples import stored
 from tests.support import GREATEST
+from tests.support import NO_REGISTER
 from tests.support import ask
 from tests.support import find_shared
 from tests.support import get_view
@@ -12,56 +18,6 @@ from tests.support import last
 from tests.support import prove_disjoint
 from tests.support import set_length
 from tests.support import set_view
-
-NO_REGISTER = (-GREATEST, -1, 6, GREATEST)
-ARRAY = 60
-
-
-def placed(axes, chance):
-    """Return a view of these axes at some offset within the array, or None."""
-    spans = [(length - 1) * stride for length, stride in zip(axes[0::2], axes[1::2])]
-    low = -sum(min(0, span) for span in spans)
-    high = ARRAY - 1 - sum(max(0, span) for span in spans)
-    return (chance.randint(low, high), axes) if low <= high else None
-
-
-def small_views(seed, amount, least_axes, most_axes):
-    """Return views in the array that differ, in canonical form, the same ones each time."""
-    chance = random.Random(seed)
-    views = []
-    while len(views) < amount:
-        axes = []
-        for place in range(chance.randint(least_axes, most_axes)):
-            length = chance.choice((1, 2, 2, 3, 3, 4))
-            axes += [length, chance.choice((-12, -6, -4, 0, 2, 3, 6, 9, 12)) if length > 1 else 0]
-        view = placed(axes, chance)
-        if view is not None:
-            views.append(view)
-    return views
-
-
-def shared_variables(p, q):
-    """Return the equation of shared cells as target and variables of a call to solve."""
-    variables = []
-    for length, stride in zip(p[1][0::2], p[1][1::2]):
-        variables += [stride, length - 1]
-    for length, stride in zip(q[1][0::2], q[1][1::2]):
-        variables += [-stride, length - 1]
-    return q[0] - p[0], variables
-
-
-def expected_shared(p, q):
-    """Return what find_shared answers."""
-    target, variables = shared_variables(p, q)
-    answer = reference.solve_answer(target, variables)
-    if answer[0] != 1:
-        return answer
-    left, right = answer[2:2 + len(p[1]) // 2], answer[2 + len(p[1]) // 2:]
-    return [1, len(left)] + left + [len(right)] + right
-
-
-def stored(n, p, q):
-    return [set_length(n), set_view(1, *p), set_view(2, *q)]
 
 
 class Refusals(unittest.TestCase):
@@ -137,7 +93,7 @@ class Edges(unittest.TestCase):
         )
         for p, q, certificate in pairs:
             found = last(*stored(60, p, q), find_shared(1, 2))
-            self.assertEqual(found, expected_shared(p, q))
+            self.assertEqual(found, shared_answer(p, q))
             self.assertEqual(last(*stored(60, p, q), prove_disjoint(1, 2, found[2:])), [1])
             self.assertEqual(found, [0, len(certificate)] + certificate)
 
@@ -147,7 +103,7 @@ class AgainstTheTerms(unittest.TestCase):
         kinds = set()
         for p, q in zip(views[0::2], views[1::2]):
             found = last(*stored(ARRAY, p, q), find_shared(1, 2))
-            self.assertEqual(found, expected_shared(p, q), (p, q))
+            self.assertEqual(found, shared_answer(p, q), (p, q))
             pair = reference.least_shared(p, q)
             self.assertEqual(found[0], 0 if pair is None else 1, (p, q))
             kinds.add(found[0])
@@ -246,13 +202,8 @@ class LongCertificates(unittest.TestCase):
             self.assertEqual(last(*setup, prove_disjoint(1, 2, certificate)), [answer])
 
     def test_a_valid_certificate_of_the_greatest_length(self):
-        def balanced(splits):
-            if splits == 0:
-                return [2]
-            return [0] + balanced((splits - 1) // 2) + balanced(splits - 1 - (splits - 1) // 2)
-
         setup = stored(GREATEST, (0, [GREATEST // 2, 2]), (1, [GREATEST // 2, 2]))
-        certificate = balanced(1249)
+        certificate = balanced(1249, 2)
         self.assertEqual(len(certificate), 2499)
         self.assertEqual(last(*setup, prove_disjoint(1, 2, certificate)), [1])
         self.assertEqual(last(*setup, prove_disjoint(1, 1, certificate)), [0])

@@ -5,6 +5,7 @@ import unittest
 from tests.reference import cell
 from tests.reference import indices
 from tests.support import GREATEST
+from tests.support import NO_REGISTER
 from tests.support import ask
 from tests.support import cell_at
 from tests.support import get_view
@@ -13,7 +14,6 @@ from tests.support import set_length
 from tests.support import set_view
 
 ALL_VIEWS = [get_view(p) for p in range(6)]
-NO_REGISTER = (-GREATEST, -1, 6, GREATEST)
 
 
 class NewObject(unittest.TestCase):

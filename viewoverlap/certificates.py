@@ -45,14 +45,29 @@ def push_halves(boxes, box):
     boxes.append(left)
 
 
+def separated(claims):
+    """Return the certificates that the list consists of, be they valid or not.
+
+    Return None if it is not a sequence of certificates.
+    """
+    certificates = []
+    start = 0
+    missing = 1
+    for place, claim in enumerate(claims):
+        if not BISECTION <= claim <= BY_PAIR:
+            return None
+        missing += 1 if claim == BISECTION else -1
+        if missing == 0:
+            certificates.append(claims[start:place + 1])
+            start = place + 1
+            missing = 1
+    return certificates if start == len(claims) else None
+
+
 def is_one_certificate(claims):
     """Tell whether the list is exactly one certificate, be it valid or not."""
-    missing = 1
-    for claim in claims:
-        if missing == 0 or not BISECTION <= claim <= BY_PAIR:
-            return False
-        missing += 1 if claim == BISECTION else -1
-    return missing == 0
+    certificates = separated(claims)
+    return certificates is not None and len(certificates) == 1
 
 
 def is_valid(equation, certificate):

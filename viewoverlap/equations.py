@@ -1,4 +1,4 @@
-"""Equations with bounded variables, and the equation of shared cells."""
+"""Equations with bounded variables, and those of shared and of repeated cells."""
 
 from viewoverlap.arithmetic import common_divisor
 from viewoverlap.arithmetic import inverse_for
@@ -64,3 +64,24 @@ def shared_equation(left, right):
     coefficients = left.strides + [-stride for stride in right.strides]
     uppers = [length - 1 for length in left.lengths + right.lengths]
     return Equation(right.offset - left.offset, coefficients, uppers)
+
+
+def repetition_axes(view):
+    """Return the axes that equations of repeated cells start from, the last one first."""
+    if view.size == 0:
+        return []
+    return [axis for axis in range(len(view.lengths) - 1, -1, -1) if view.lengths[axis] >= 2]
+
+
+def repetition_equation(view, axis):
+    """Return the equation of repeated cells of a view from an axis on."""
+    reaches = [length - 1 for length in view.lengths[axis + 1:]]
+    uppers = [view.lengths[axis] - 2] + [2 * reach for reach in reaches]
+    shift = sum([stride * reach for stride, reach in zip(view.strides[axis + 1:], reaches)])
+    return Equation(shift - view.strides[axis], view.strides[axis:], uppers)
+
+
+def represented_differences(view, axis, solution):
+    """Return for each axis how far apart the two indices are that a solution tells."""
+    later = [number - length + 1 for number, length in zip(solution[1:], view.lengths[axis + 1:])]
+    return [0] * axis + [solution[0] + 1] + later

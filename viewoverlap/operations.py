@@ -1,4 +1,4 @@
-"""The operations, each one giving back the numbers of its answer.
+"""The operations 0 to 9, each one giving back the numbers of its answer.
 
 Their parameters behind the store are those of the document's signatures.
 """
@@ -6,7 +6,11 @@ Their parameters behind the store are those of the document's signatures.
 from viewoverlap.certificates import is_one_certificate
 from viewoverlap.certificates import is_valid
 from viewoverlap.certificates import search
+from viewoverlap.certificates import separated
 from viewoverlap.equations import Equation
+from viewoverlap.equations import repetition_axes
+from viewoverlap.equations import repetition_equation
+from viewoverlap.equations import represented_differences
 from viewoverlap.equations import shared_equation
 from viewoverlap.limits import AXIS_LIMIT
 from viewoverlap.limits import BOX_LIMIT
@@ -91,6 +95,34 @@ def prove_disjoint(store, p, q, certificate):
     left = store.view_in(p)
     right = store.view_in(q)
     return validity(shared_equation(left, right), certificate)
+
+
+def find_repetition(store, p):
+    """Answer two different indices with the same cell, or certificates."""
+    view = store.view_in(p)
+    certificates = []
+    for axis in repetition_axes(view):
+        # Without a solution a search gives one claim for each box that it examined.
+        boxes_left = BOX_LIMIT - len(certificates)
+        solution, claims = search(repetition_equation(view, axis), boxes_left)
+        if solution is not None:
+            differences = represented_differences(view, axis, solution)
+            first = [max(0, -difference) for difference in differences]
+            second = [max(0, difference) for difference in differences]
+            return [1] + counted(first) + counted(second)
+        certificates.extend(claims)
+    return [0] + counted(certificates)
+
+
+def prove_distinct(store, p, certificates):
+    """Answer whether certificates show that no cell occurs twice in a view."""
+    view = store.view_in(p)
+    axes = repetition_axes(view)
+    parts = separated(certificates)
+    if parts is None or len(parts) != len(axes):
+        return [0]
+    valid = all([is_valid(repetition_equation(view, axis), part) for axis, part in zip(axes, parts)])
+    return [1 if valid else 0]
 
 
 def view_from(offset, axes):

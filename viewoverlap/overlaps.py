@@ -2,17 +2,28 @@
 
 from viewoverlap.operations import cell_at
 from viewoverlap.operations import check_certificate
+from viewoverlap.operations import find_repetition
 from viewoverlap.operations import find_shared
 from viewoverlap.operations import get_view
 from viewoverlap.operations import prove_disjoint
+from viewoverlap.operations import prove_distinct
 from viewoverlap.operations import set_length
 from viewoverlap.operations import set_view
 from viewoverlap.operations import solve
 from viewoverlap.refusals import Refusal
+from viewoverlap.small_views import cell_statistics
+from viewoverlap.small_views import elements_with_cell
+from viewoverlap.small_views import first_repeated
+from viewoverlap.small_views import first_shared_pair
+from viewoverlap.small_views import is_covered
+from viewoverlap.small_views import shared_statistics
 from viewoverlap.store import Store
 
 # How many whole numbers and how many rows a call has, by its operation number.
-FORMS = ((1, 0), (2, 1), (1, 0), (1, 1), (1, 1), (1, 2), (2, 0), (2, 1))
+FORMS = (
+    (1, 0), (2, 1), (1, 0), (1, 1), (1, 1), (1, 2), (2, 0), (2, 1),
+    (1, 0), (1, 1), (2, 0), (1, 0), (2, 0), (2, 0), (1, 0), (2, 0),
+)
 
 
 def answers(calls):
@@ -67,4 +78,25 @@ def answer_to(store, operation, numbers, rows):
         return check_certificate(numbers[0], rows[0], rows[1])
     if operation == 6:
         return find_shared(store, numbers[0], numbers[1])
-    return prove_disjoint(store, numbers[0], numbers[1], rows[0])
+    if operation == 7:
+        return prove_disjoint(store, numbers[0], numbers[1], rows[0])
+    if operation == 8:
+        return find_repetition(store, numbers[0])
+    if operation == 9:
+        return prove_distinct(store, numbers[0], rows[0])
+    return small_views_answer(store, operation, numbers)
+
+
+def small_views_answer(store, operation, numbers):
+    """Return the answer to a call that goes through views element by element."""
+    if operation == 10:
+        return elements_with_cell(store, numbers[0], numbers[1])
+    if operation == 11:
+        return cell_statistics(store, numbers[0])
+    if operation == 12:
+        return shared_statistics(store, numbers[0], numbers[1])
+    if operation == 13:
+        return first_shared_pair(store, numbers[0], numbers[1])
+    if operation == 14:
+        return first_repeated(store, numbers[0])
+    return is_covered(store, numbers[0], numbers[1])

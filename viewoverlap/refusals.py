@@ -78,6 +78,13 @@ class SearchLimitExceeded(Refusal):
         Refusal.__init__(self, -30)
 
 
+class TooManyElements(Refusal):
+    """A view has more than 400 elements."""
+
+    def __init__(self):
+        Refusal.__init__(self, -31)
+
+
 class NotOneCertificate(Refusal):
     """The list is not exactly one certificate."""
 
